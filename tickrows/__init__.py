@@ -1,0 +1,1 @@
+"""Tickrows: waves drawn in rows."""
