@@ -1,14 +1,9 @@
 import unittest
 
 from all_waves import all_that_it_can_be, waves_of
-from tickrows.errors import TickError, Unlike
+from refusals import refuses
+from tickrows.errors import Unlike
 from tickrows.gates import both, chosen, either, no, unlike
-
-
-def refuses_unlike(test, call, *waves):
-    with test.assertRaises(TickError) as caught:
-        call(*waves)
-    test.assertIs(type(caught.exception), Unlike)
 
 
 def told_of_all(call, *waves):
@@ -97,13 +92,13 @@ class UnlikeLengths(unittest.TestCase):
         for call in (both, either, unlike):
             for one, other in (("0", "01"), ("01", "0"), ("0" * 12, "0" * 11), ("x", "xx"), ("1", "0" * 12)):
                 with self.subTest(call=call.__name__, one=one, other=other):
-                    refuses_unlike(self, call, one, other)
+                    refuses(self, Unlike, call, one, other)
 
     def test_chosen_with_any_one_of_another_length(self):
         for waves in (("00", "0", "0"), ("0", "00", "0"), ("0", "0", "00"), ("00", "00", "0"), ("00", "0", "00"),
                       ("0", "00", "00"), ("0", "00", "000"), ("1" * 12, "1" * 12, "1" * 11)):
             with self.subTest(waves=waves):
-                refuses_unlike(self, chosen, *waves)
+                refuses(self, Unlike, chosen, *waves)
 
 
 class BeyondTheBounds(unittest.TestCase):

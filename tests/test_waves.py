@@ -1,20 +1,14 @@
 import unittest
 
 from all_waves import waves_of, waves_up_to
-from tickrows.errors import NoTick, TickError, TooLong
+from refusals import refuses
+from tickrows.errors import NoTick, TooLong
 from tickrows.waves import (
     changes, falls, is_known, is_wave, joined, later, level_at, of_spans, part, rises, slower, spans, turned_about,
     with_level,
 )
 
 MOST = 12
-
-
-def refuses(test, refusal, call, *things):
-    """The very refusal, not one that stands under it."""
-    with test.assertRaises(TickError) as caught:
-        call(*things)
-    test.assertIs(type(caught.exception), refusal)
 
 
 def nested(thing, depth, kind):
