@@ -2,12 +2,10 @@ import unittest
 from itertools import product
 
 from all_waves import waves_up_to
+from edits import SIGNS, with_one_edit
 from refusals import refuses
 from tickrows.errors import NoText
 from tickrows.pictures import picture, read_picture
-
-# All signs that a text may have, from the blank to ~, and the line feed.
-SIGNS = [chr(number) for number in range(ord(" "), ord("~") + 1)] + ["\n"]
 
 PICTURES = {
     "0": " \n \n_\n",
@@ -42,15 +40,6 @@ def drawn_by_hand(wave):
                 signs += " " if row == 0 and "x" not in ahead + behind else "|"
         rows.append(signs + "\n")
     return "".join(rows)
-
-
-def with_one_edit(text, signs):
-    """All texts with a sign put in, taken out or exchanged."""
-    told = [text[:place] + text[place + 1:] for place in range(len(text))]
-    for sign in signs:
-        told += [text[:place] + sign + text[place:] for place in range(len(text) + 1)]
-        told += [text[:place] + sign + text[place + 1:] for place in range(len(text)) if text[place] != sign]
-    return told
 
 
 class Picture(unittest.TestCase):

@@ -24,14 +24,22 @@ def refuse_no_tick(wave, tick):
         raise NoTick(f"no tick is numbered {tick}")
 
 
+def of_one_length(waves):
+    return all([len(wave) == len(waves[0]) for wave in waves])
+
+
 def refuse_unlike(waves):
-    if any([len(wave) != len(waves[0]) for wave in waves]):
+    if not of_one_length(waves):
         raise Unlike("the waves have unlike lengths")
 
 
-def not_too_long(signs):
-    if not 1 <= len(signs) <= MOST_TICKS:
+def refuse_too_long(length):
+    if not 1 <= length <= MOST_TICKS:
         raise TooLong(f"a wave has 1 to {MOST_TICKS} ticks")
+
+
+def not_too_long(signs):
+    refuse_too_long(len(signs))
     return signs
 
 
@@ -63,6 +71,11 @@ def spans(wave):
     return [(start, end - start, wave[start]) for start, end in zip(starts, ends)]
 
 
+def inner_spans(wave):
+    # What was ahead of the wave, and what comes behind it, may have made its first and last stretch longer.
+    return spans(wave)[1:-1]
+
+
 def of_spans(rows):
     # A stretch that is too long by one tick is refused as well as a longer one, and is soon written.
     return not_too_long("".join([level * min(many, MOST_TICKS + 1) for many, level in rows]))
@@ -88,3 +101,7 @@ def later(wave, by, level):
 
 def turned_about(wave):
     return "".join(reversed(wave))
+
+
+def first_ticks_behind(wave, many):
+    return wave[many:] + wave[:many]
