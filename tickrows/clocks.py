@@ -1,5 +1,6 @@
 """Clocks, and what is sampled by them."""
 
+from tickrows.buses import digit_wave
 from tickrows.errors import TooLong
 from tickrows.gates import chosen_at
 from tickrows.waves import MOST_TICKS, not_too_long, refuse_unlike, rises
@@ -57,7 +58,3 @@ def rises_up_to(beat):
             so_many += 1
         counts.append(so_many)
     return counts
-
-
-def digit_wave(counts, place):
-    return "".join([str((number >> place) & 1) for number in counts])

@@ -11,7 +11,11 @@ def is_wave(thing):
         return False
     if not 1 <= len(thing) <= MOST_TICKS:
         return False
-    return all([sign in LEVELS for sign in thing])
+    return are_levels(thing)
+
+
+def are_levels(signs):
+    return all([sign in LEVELS for sign in signs])
 
 
 def is_known(wave):
@@ -31,6 +35,11 @@ def of_one_length(waves):
 def refuse_unlike(waves):
     if not of_one_length(waves):
         raise Unlike("the waves have unlike lengths")
+
+
+def common_length(waves):
+    refuse_unlike(waves)
+    return max([len(wave) for wave in waves], default=0)
 
 
 def refuse_too_long(length):
